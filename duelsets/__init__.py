@@ -1,0 +1,1 @@
+"""Best sets and lotteries of tables of duels."""

@@ -1,0 +1,182 @@
+"""The files of the package: the interface is defined where it is listed, and the rules that can be read off the files.
+
+The numbers of rules are those of LANGUAGE.md.
+"""
+
+import ast
+import builtins
+import pathlib
+import re
+import unittest
+import warnings
+
+PACKAGE = pathlib.Path(__file__).resolve().parent.parent / "duelsets"
+
+# What has landed of the interface; bounds are plain values, the others are functions and classes.
+VALUES = {"bounds": ["MAX_SIZE", "MAX_ENTRIES", "EDITS", "BATCH"]}
+DEFINITIONS = {
+    "errors": [
+        "DuelError", "NoSet", "SameAlternative", "NoTop", "NoOrder", "TooLarge", "NotOfKind", "NoFlag", "NoPlans",
+        "BadTable", "NotStrong", "TooManyEdits", "LastOne", "NothingToUndo", "BadEdits", "BadEdit", "Rejected", "Busy",
+        "BadText", "NoAlternative", "NoAddress", "NoKind", "NoIndex", "NoVersion",
+    ],
+    "tables": [
+        "is_table", "table_error", "wins_of", "losses_of", "scores", "restrict_table", "turn_duel", "relabel_table",
+        "all_sets",
+    ],
+}
+
+BUILTINS = set(
+    """len range enumerate zip min max sum abs sorted reversed int str bool bytes list tuple dict set frozenset
+    isinstance ord repr any all divmod Exception ValueError TypeError KeyError IndexError LookupError ZeroDivisionError
+    ArithmeticError OverflowError RuntimeError NotImplementedError AttributeError StopIteration NotImplemented iter next
+    super property staticmethod classmethod""".split()
+)
+BARRED_WORDS = re.compile(
+    r"\b(type|typing|typing_extensions|enum|Enum|IntEnum|StrEnum|Flag|IntFlag|Generic|Protocol|ABC|ABCMeta|namedtuple"
+    r"|NamedTuple|TypedDict|TYPE_CHECKING|abstractmethod)\b|dataclass|overload|contextmanager"
+)
+BARRED_NAMES = {"register", "mro", "elements", "open", "input", "law", "version_info", "with_traceback", "add_note"}
+DOUBLE = re.compile(r"__[a-z]+__")
+
+
+def sources():
+    return [(path, path.read_text(encoding="utf-8")) for path in sorted(PACKAGE.glob("*.py"))]
+
+
+def trees():
+    return [(path, ast.parse(text)) for path, text in sources()]
+
+
+def names_in(tree):
+    """Each name that a file uses or defines, with its line."""
+    for node in ast.walk(tree):
+        for field in ("id", "attr", "name", "arg"):
+            name = getattr(node, field, None)
+            if isinstance(name, str):
+                yield name, getattr(node, "lineno", 0)
+
+
+def package_imports(tree):
+    return [
+        (node.module.split(".")[-1], alias.name)
+        for node in tree.body
+        if isinstance(node, ast.ImportFrom) and node.module != "__future__"
+        for alias in node.names
+    ]
+
+
+def defined_names(tree):
+    found = {node.name for node in tree.body if isinstance(node, (ast.FunctionDef, ast.ClassDef))}
+    return found | {target.id for node in tree.body if isinstance(node, ast.Assign) for target in node.targets}
+
+
+class InterfaceTest(unittest.TestCase):
+    def test_values_are_assigned_in_their_file(self):
+        found = {path.stem: defined_names(tree) for path, tree in trees()}
+        for module, names in VALUES.items():
+            self.assertEqual(set(names) - found[module], set())
+
+    def test_functions_and_classes_are_defined_in_their_file(self):
+        for module, names in DEFINITIONS.items():
+            tree = dict((path.stem, tree) for path, tree in trees())[module]
+            found = {node.name for node in tree.body if isinstance(node, (ast.FunctionDef, ast.ClassDef))}
+            self.assertEqual(set(names) - found, set())
+
+
+class FilesTest(unittest.TestCase):
+    def test_only_plain_files(self):
+        for path in PACKAGE.iterdir():
+            if path.name != "__pycache__":
+                self.assertRegex(path.name, r"^([a-z][a-z0-9_]*|__init__|__main__)\.py$", "L1, L14")
+        self.assertTrue((PACKAGE / "__init__.py").is_file())
+
+    def test_characters_and_lengths(self):
+        for path, text in sources():
+            self.assertIsNone(re.search(r"[^ -~\n]", text), f"L14 {path.name}")
+            lines = text.split("\n")
+            self.assertLessEqual(len(lines), 400, f"L10 {path.name}")
+            self.assertLessEqual(max(map(len, lines)), 120, f"L10 {path.name}")
+
+    def test_functions_are_short(self):
+        for path, tree in trees():
+            for node in ast.walk(tree):
+                if isinstance(node, ast.FunctionDef):
+                    self.assertLessEqual(node.end_lineno - node.lineno + 1, 40, f"L10 {path.name} {node.name}")
+
+    def test_no_warnings(self):
+        for path, text in sources():
+            with warnings.catch_warnings():
+                warnings.simplefilter("error")
+                compile(text, str(path), "exec")
+
+
+class ImportsTest(unittest.TestCase):
+    def test_form(self):
+        for path, tree in trees():
+            for node in ast.walk(tree):
+                if isinstance(node, ast.Import):
+                    self.assertEqual((path.name, [a.name for a in node.names]), ("__main__.py", ["sys"]), "L2, L16")
+                if isinstance(node, ast.ImportFrom):
+                    self.assertIn(node, tree.body, f"L2 {path.name}")
+                    self.assertEqual(node.level, 0, f"L2 {path.name}")
+                    self.assertRegex(node.module, r"^(duelsets\.[a-z][a-z0-9_]*|__future__)$", f"L2 {path.name}")
+
+    def test_each_name_comes_from_the_file_that_defines_it(self):
+        found = {path.stem: defined_names(tree) for path, tree in trees()}
+        for path, tree in trees():
+            for module, name in package_imports(tree):
+                self.assertIn(name, found[module], f"L16 {path.name}")
+
+    def test_no_circle(self):
+        below = {path.stem: {module for module, _ in package_imports(tree)} for path, tree in trees()}
+        while below:
+            free = [module for module in below if not below[module] & set(below)]
+            self.assertTrue(free, f"L16 {sorted(below)}")
+            below = {module: below[module] for module in below if module not in free}
+
+
+class WordsTest(unittest.TestCase):
+    def test_module_level(self):
+        for path, tree in trees():
+            for at, node in enumerate(tree.body):
+                docstring = at == 0 and isinstance(node, ast.Expr) and isinstance(node.value, ast.Constant)
+                allowed = (ast.ImportFrom, ast.FunctionDef, ast.ClassDef, ast.Assign, ast.AnnAssign)
+                if path.name == "__main__.py":
+                    allowed += (ast.Import, ast.If)
+                self.assertTrue(docstring or isinstance(node, allowed), f"L3 {path.name}:{node.lineno}")
+
+    def test_barred_words(self):
+        for path, text in sources():
+            for number, line in enumerate(text.split("\n"), 1):
+                self.assertIsNone(BARRED_WORDS.search(line), f"L17 {path.name}:{number}")
+
+    def test_names(self):
+        for path, tree in trees():
+            for name, line in names_in(tree):
+                where = f"{path.name}:{line} {name}"
+                self.assertFalse(name.startswith("_") and not DOUBLE.fullmatch(name), f"L12 {where}")
+                self.assertNotIn(name, BARRED_NAMES, f"L17 {where}")
+
+    def test_builtins(self):
+        for path, tree in trees():
+            allowed = BUILTINS | ({"print"} if path.name == "__main__.py" else set())
+            for node in ast.walk(tree):
+                if isinstance(node, ast.Name) and hasattr(builtins, node.id) and not DOUBLE.fullmatch(node.id):
+                    self.assertIn(node.id, allowed, f"L8 {path.name}:{node.lineno}")
+                    self.assertIsInstance(node.ctx, ast.Load, f"L15 {path.name}:{node.lineno}")
+                if isinstance(node, ast.arg):
+                    self.assertFalse(hasattr(builtins, node.arg), f"L15 {path.name}:{node.lineno}")
+
+    def test_numbers_and_strings(self):
+        for path, tree in trees():
+            for node in ast.walk(tree):
+                if isinstance(node, ast.Constant):
+                    self.assertNotIsInstance(node.value, (float, complex), f"L7 {path.name}:{node.lineno}")
+                    if isinstance(node.value, str):
+                        self.assertNotIn("%", node.value, f"L27 {path.name}:{node.lineno}")
+                self.assertNotIsInstance(node, (ast.Div, ast.Global, ast.AsyncFunctionDef, ast.Await), f"L6, L7 {path}")
+
+
+if __name__ == "__main__":
+    unittest.main()
