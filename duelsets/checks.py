@@ -29,3 +29,13 @@ def require_alternative(table, value):
     """Raise NoAlternative with the value unless it is an alternative of the table."""
     if not is_alternative(table, value):
         raise NoAlternative(value)
+
+
+def is_one_each(table, value):
+    """Return whether any value is a tuple with one item for each alternative of the table."""
+    return isinstance(value, tuple) and len(value) == len(table)
+
+
+def is_marked(value, word):
+    """Return whether any value is a tuple of this word and one more item."""
+    return isinstance(value, tuple) and len(value) == 2 and value[0] == word

@@ -66,6 +66,21 @@ def places_of(row, sign):
     return tuple([j for j, mark in enumerate(row) if mark == sign])
 
 
+def beats(table, one, other):
+    """Return whether one beats the other; no alternative beats itself."""
+    return table[one][other] == "+"
+
+
+def beats_all(table, one, others):
+    """Return whether one beats each of the others, perhaps none."""
+    return all([beats(table, one, other) for other in others])
+
+
+def outsiders(table, members):
+    """Return the set of the alternatives that are not members."""
+    return tuple([one for one in range(len(table)) if one not in members])
+
+
 def scores(table):
     """Return the number of alternatives that each alternative beats."""
     return tuple([row.count("+") for row in table])

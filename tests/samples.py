@@ -60,6 +60,29 @@ def deep_value(levels):
     return [value]
 
 
+def odd_certificates(size):
+    """Values that are no certificates of a top set or an uncovered set for a table of this size."""
+    values = [*odd_values(), (), 0, ("in",), ("out",), "in", "out", ("in", "out"), ("out", "in"), (None, None)]
+    for part in [*odd_values(), (), (None,) * (size + 1), (None,) * (size - 1), (size,), (-1,), (0, 0), (1, 0), -size]:
+        values += [("in", part), ["in", part], ("in", part, part), ("In", part), (True, part), (["in"], part)]
+        values += [("out", part), ["out", part], ("out", part, None), ("", part), (None, part), {"out": part}]
+    return values
+
+
+def spoiled(value, size):
+    """Values like this result with parts replaced: each part on its own, added, left out or put into a list."""
+    yield from (None, True, False, -1, size, 10 ** 29, "", "0", "in", "out", (), [], [value], (value,), {"in": value})
+    if type(value) is int:
+        yield from (bool(value), str(value), [value], *range(-size, size + 2))
+    if type(value) is str:
+        yield from (value.upper(), value + " ", value[:-1], [value])
+    if type(value) is tuple:
+        yield from (list(value), value + (None,), value + value, (None,) + value, value[1:], value[:-1], value[::-1])
+        for at, part in enumerate(value):
+            for other in spoiled(part, size):
+                yield value[:at] + (other,) + value[at + 1:]
+
+
 def raised(error_class, function, *arguments):
     """The error of exactly this class that a call raises."""
     try:

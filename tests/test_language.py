@@ -24,6 +24,10 @@ DEFINITIONS = {
         "is_table", "table_error", "wins_of", "losses_of", "scores", "restrict_table", "turn_duel", "relabel_table",
         "all_sets",
     ],
+    "tops": ["layers", "dominant_sets", "top_set", "top_certificate", "top_holds"],
+    "covers": ["coverers", "uncovered_set", "uncovered_certificate", "uncovered_holds"],
+    "coverings": ["is_covering", "covering_sets", "smallest_covering", "find_witnesses", "witnesses_hold"],
+    "chains": ["is_chain", "is_full_chain", "chain_tops", "chain_for", "full_chains", "each_full_chain"],
 }
 
 BUILTINS = set(
@@ -69,6 +73,22 @@ def package_imports(tree):
 def defined_names(tree):
     found = {node.name for node in tree.body if isinstance(node, (ast.FunctionDef, ast.ClassDef))}
     return found | {target.id for node in tree.body if isinstance(node, ast.Assign) for target in node.targets}
+
+
+def iterated_calls(tree, names):
+    """The calls of these functions that a loop, a comprehension, a list or a tuple goes through on the spot."""
+    found = []
+    for node in ast.walk(tree):
+        if isinstance(node, (ast.For, ast.comprehension)):
+            found.append(node.iter)
+        if isinstance(node, ast.YieldFrom):
+            found.append(node.value)
+        if isinstance(node, ast.Call) and isinstance(node.func, ast.Name) and node.func.id in ("list", "tuple"):
+            found += node.args
+    return [
+        call for call in found
+        if isinstance(call, ast.Call) and isinstance(call.func, ast.Name) and call.func.id in names
+    ]
 
 
 class InterfaceTest(unittest.TestCase):
@@ -167,6 +187,31 @@ class WordsTest(unittest.TestCase):
                     self.assertIsInstance(node.ctx, ast.Load, f"L15 {path.name}:{node.lineno}")
                 if isinstance(node, ast.arg):
                     self.assertFalse(hasattr(builtins, node.arg), f"L15 {path.name}:{node.lineno}")
+
+    def test_no_generator_expression_in_builtins_that_compare(self):
+        for path, tree in trees():
+            for node in ast.walk(tree):
+                if isinstance(node, ast.Call) and isinstance(node.func, ast.Name):
+                    if node.func.id in ("any", "all", "min", "max", "sum", "sorted"):
+                        bare = [part for part in node.args if isinstance(part, ast.GeneratorExp)]
+                        self.assertEqual(bare, [], f"L7 {path.name}:{node.lineno}")
+
+    def test_is_with_constants_only(self):
+        for path, tree in trees():
+            for node in ast.walk(tree):
+                if isinstance(node, ast.Compare):
+                    for sign, right in zip(node.ops, node.comparators):
+                        if isinstance(sign, (ast.Is, ast.IsNot)):
+                            self.assertIn(ast.unparse(right), ("None", "True", "False"), f"L20 {path.name}")
+
+    def test_generators_are_iterated_at_once(self):
+        makers = {
+            node.name for _, tree in trees() for node in ast.walk(tree)
+            if isinstance(node, ast.FunctionDef) and any(isinstance(part, ast.Yield) for part in ast.walk(node))
+        }
+        for path, tree in trees():
+            used = [node for node in ast.walk(tree) if isinstance(node, ast.Name) and node.id in makers]
+            self.assertEqual(len(used), len(iterated_calls(tree, makers)), f"L23 {path.name}")
 
     def test_numbers_and_strings(self):
         for path, tree in trees():
