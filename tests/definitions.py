@@ -154,3 +154,45 @@ def smallest_of(family):
     inner = [members for members in family if all(set(members) <= set(other) for other in family)]
     assert len(inner) == 1, family
     return inner[0]
+
+
+def plain_balances(table, weights):
+    """The weights that each alternative beats minus those that beat it."""
+    return tuple(
+        sum(weights[other] for other in alternatives(table) if other != one and beats(table, one, other))
+        - sum(weights[other] for other in alternatives(table) if other != one and beats(table, other, one))
+        for one in alternatives(table)
+    )
+
+
+def is_balanced_weights(table, weights):
+    """Whether integers from 0 on are not all 0 and no balance is positive."""
+    return any(weights) and all(balance <= 0 for balance in plain_balances(table, weights))
+
+
+def is_plain_component(table, value):
+    """Whether any value is a component."""
+    if not is_plain_set(table, value) or value == ():
+        return False
+    return all(
+        all(beats(table, other, one) for one in value) or all(beats(table, one, other) for one in value)
+        for other in alternatives(table) if other not in value
+    )
+
+
+@functools.cache
+def component_family(table):
+    return tuple(members for members in sets_by_size(len(table)) if is_plain_component(table, members))
+
+
+def plain_parts(table):
+    """The parts, in the order of their lowest alternatives."""
+    if len(table) == 1:
+        return ((0,),)
+    dominant = [set(), *map(set, dominant_family(table))]
+    if len(dominant) > 2:
+        found = [tuple(sorted(dominant[k + 1] - dominant[k])) for k in range(len(dominant) - 1)]
+    else:
+        smaller = [set(members) for members in component_family(table) if len(members) < len(table)]
+        found = [tuple(sorted(one)) for one in smaller if not any(one < other for other in smaller)]
+    return tuple(sorted(found, key=lambda part: part[0]))

@@ -15,6 +15,13 @@ RARE_BITS = {
     9: (0x53EEFE734, 0x64C867062, 0x3F4DFC9A5, 0x976FBB6ED),
 }
 
+# The lotteries of these tables have many different weights.
+WEIGHTY_BITS = {
+    7: (0xE0B2A, 0x70D99),
+    8: (0xFECAB15, 0xE5D271B),
+    9: (0x8308D68AB, 0xF6D65B564, 0x35CFD2B8F),
+}
+
 
 def table_where(size, wins):
     """The table in which i beats j, for i < j, if wins(i, j)."""
@@ -81,9 +88,13 @@ def shuffled(chance, table):
     return relabeled(table, order)
 
 
+def shuffled_order(seed, size):
+    return tuple(random.Random(seed).sample(range(size), size))
+
+
 @functools.cache
 def shaped_tables(size):
-    """Tables of this size, each once: rare, drawn, linear, nearly linear, circles, groups in a circle, copies."""
+    """Tables of this size, each once: rare, linear, circles, drawn, nearly linear, groups, copies, many weights."""
     chance = random.Random(size)
     tables = [table_of_bits(size, bits) for bits in RARE_BITS.get(size, ())]
     tables += [linear_table(size), shuffled(chance, linear_table(size))]
@@ -101,6 +112,7 @@ def shaped_tables(size):
     for many in range(2, min(5, size + 1)):
         rest = drawn_table(chance, size - many + 1)
         tables.append(copied(chance, rest, chance.randrange(len(rest)), many))
+    tables += [table_of_bits(size, bits) for bits in WEIGHTY_BITS.get(size, ())]
     return tuple(dict.fromkeys(tables))
 
 

@@ -1,18 +1,24 @@
-"""Point [2], (b), (d) and (f), for the sets of sections 2, 3 and 5, and what is asked of all their functions."""
+"""Point [2], (b), (d) and (f), for the sets of sections 2 to 5, and what is asked of all functions of tables.
+
+(a) is tested with the lotteries, and (e) with the kinds.
+"""
 
 import itertools
 import time
 import unittest
 
 from duelsets.chains import chain_for, chain_tops, each_full_chain, full_chains, is_chain, is_full_chain
+from duelsets.components import all_components, is_component, parts, replace_alternatives, summary
 from duelsets.coverings import covering_sets, find_witnesses, is_covering, smallest_covering, witnesses_hold
 from duelsets.covers import coverers, uncovered_certificate, uncovered_holds, uncovered_set
+from duelsets.kinds import member_sets, members, select
+from duelsets.lotteries import balances, is_lottery, lottery, support
 from duelsets.tops import dominant_sets, layers, top_certificate, top_holds, top_set
 from tests.definitions import covering_family, covers, dominant_family, full_chain_family, smallest_of
 from tests.samples import U, all_tables, beats, table_of_bits
 from tests.shapes import circle, every_shape, linear_table, shaped_tables, turned, without
 
-SETS = (top_set, uncovered_set, smallest_covering, chain_tops)
+SETS = (top_set, uncovered_set, smallest_covering, chain_tops, support)
 
 
 def uncovered_family(table):
@@ -24,11 +30,12 @@ class ContainedTest(unittest.TestCase):
     """(b)"""
 
     def check(self, table):
-        top, uncovered, covering, tops = [set(function(table)) for function in SETS]
+        top, uncovered, covering, tops, positive = [set(function(table)) for function in SETS]
+        self.assertLessEqual(positive, covering, table)
         self.assertLessEqual(covering, uncovered, table)
         self.assertLessEqual(uncovered, top, table)
         self.assertLessEqual(tops, uncovered, table)
-        self.assertTrue(covering and tops, table)
+        self.assertTrue(positive and tops, table)
 
     def test_many_tables(self):
         for table in every_shape():
@@ -74,6 +81,7 @@ class RemovedTest(unittest.TestCase):
         for table in [*every_shape(), *all_tables(5)[::3]]:
             self.check(top_set, table)
             self.check(smallest_covering, table)
+            self.check(support, table)
 
 
 class AcceptedTest(unittest.TestCase):
@@ -128,8 +136,15 @@ class AtOnceTest(unittest.TestCase):
         everyone = tuple(range(9))
         for function in (layers, dominant_sets, full_chains, covering_sets, *SETS):
             yield function, (table,)
-        for function in (is_covering, is_chain, is_full_chain):
+        for function in (all_components, parts, summary, lottery, select):
+            yield function, (table,)
+        for function in (is_covering, is_chain, is_full_chain, is_component, is_lottery):
             yield function, (table, everyone)
+        for kind in ("all", "top", "uncovered", "chain", "covering", "support"):
+            yield members, (table, kind)
+            yield member_sets, (table, kind, kind)
+        yield balances, (table, (10 ** 29,) * 9)
+        yield replace_alternatives, (table, ((".",),) * 9)
         yield find_witnesses, (table, everyone)
         yield witnesses_hold, (table, everyone, (None,) * 9)
         yield chain_for, (table, full_chain_family(table)[-1][0])
@@ -152,8 +167,8 @@ class AtOnceTest(unittest.TestCase):
                 for part in (value, list(value), ("in", value), ("out", value)):
                     results = [is_covering(table, part), is_chain(table, part), is_full_chain(table, part)]
                     results += [top_holds(table, 0, part), uncovered_holds(table, 0, part)]
-                    results += [witnesses_hold(table, (0,), part)]
-                    self.assertEqual(results, [False] * 6)
+                    results += [witnesses_hold(table, (0,), part), is_component(table, part), is_lottery(table, part)]
+                    self.assertEqual(results, [False] * 8)
             self.assertLess(time.perf_counter() - start, 2)
 
 
@@ -166,6 +181,7 @@ class BeyondTheLimitTest(unittest.TestCase):
         self.assertEqual(set(uncovered_set(table)), uncovered_family(table))
         self.assertEqual(smallest_covering(table), smallest_of(covering_family(table)))
         self.assertEqual(tuple(each_full_chain(table)), full_chain_family(table))
+        self.assertTrue(is_lottery(table, lottery(table)))
         for one in range(10):
             self.assertIs(top_holds(table, one, top_certificate(table, one)), True)
             self.assertIs(uncovered_holds(table, one, uncovered_certificate(table, one)), True)

@@ -27,7 +27,14 @@ DEFINITIONS = {
     "tops": ["layers", "dominant_sets", "top_set", "top_certificate", "top_holds"],
     "covers": ["coverers", "uncovered_set", "uncovered_certificate", "uncovered_holds"],
     "coverings": ["is_covering", "covering_sets", "smallest_covering", "find_witnesses", "witnesses_hold"],
+    "lotteries": ["balances", "is_lottery", "lottery", "support"],
     "chains": ["is_chain", "is_full_chain", "chain_tops", "chain_for", "full_chains", "each_full_chain"],
+    "components": ["is_component", "all_components", "parts", "summary", "replace_alternatives"],
+    "plans": ["is_plan", "plan_size", "is_address", "plan_duel", "plan_score", "expand_plan", "series_plan"],
+    "kinds": [
+        "members", "member_sets", "select", "count_members", "is_member", "member_at", "member_index", "each_member",
+        "share",
+    ],
 }
 
 BUILTINS = set(
@@ -207,7 +214,8 @@ class WordsTest(unittest.TestCase):
     def test_generators_are_iterated_at_once(self):
         makers = {
             node.name for _, tree in trees() for node in ast.walk(tree)
-            if isinstance(node, ast.FunctionDef) and any(isinstance(part, ast.Yield) for part in ast.walk(node))
+            if isinstance(node, ast.FunctionDef)
+            and any(isinstance(part, (ast.Yield, ast.YieldFrom)) for part in ast.walk(node))
         }
         for path, tree in trees():
             used = [node for node in ast.walk(tree) if isinstance(node, ast.Name) and node.id in makers]
