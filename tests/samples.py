@@ -53,6 +53,12 @@ def odd_values():
     ]
 
 
+def not_kinds():
+    """Values that are not kinds, made anew for each call."""
+    words = ["All", "top ", " top", "tops", "TOP", "best", "lottery", "al", "", "all\n", "supports", "kind"]
+    return [*odd_values(), 0, 1, (), ("top",), ["top"], {"top": True}, *words]
+
+
 def deep_value(levels):
     value = 0
     for level in range(levels):

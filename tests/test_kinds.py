@@ -19,7 +19,7 @@ from tests.plan_samples import (
     C, P, Q, deep_plan, flat_plan, great_plan, great_plans, middle_plans, odd_addresses, plain_addresses,
     plain_expanded, plain_size, small_plans,
 )
-from tests.samples import T, U, check_pure, odd_values, raised
+from tests.samples import T, U, check_pure, not_kinds, odd_values, raised
 from tests.shapes import every_shape, linear_table, shaped_tables
 
 SETS = {
@@ -30,12 +30,6 @@ SETS = {
     "covering": smallest_covering,
     "support": support,
 }
-
-
-def not_kinds():
-    """Values that are not kinds, made anew for each call."""
-    words = ["All", "top ", " top", "tops", "TOP", "best", "lottery", "al", "", "all\n", "supports", "kind"]
-    return [*odd_values(), 0, 1, (), ("top",), ["top"], {"top": True}, *words]
 
 
 def not_indexes(count):

@@ -12,7 +12,7 @@ import warnings
 
 PACKAGE = pathlib.Path(__file__).resolve().parent.parent / "duelsets"
 
-# What has landed of the interface; bounds are plain values, the others are functions and classes.
+# The interface; bounds are plain values, the others are functions and classes.
 VALUES = {"bounds": ["MAX_SIZE", "MAX_ENTRIES", "EDITS", "BATCH"]}
 DEFINITIONS = {
     "errors": [
@@ -35,6 +35,22 @@ DEFINITIONS = {
         "members", "member_sets", "select", "count_members", "is_member", "member_at", "member_index", "each_member",
         "share",
     ],
+    "sequences": ["sequence_winner", "careful_winner", "sequence_for", "sequence_counts", "careful_counts"],
+    "benches": ["Bench", "StrongBench", "LoggedBench", "LoggedStrongBench"],
+    "texts": ["table_text", "set_text", "parse_table", "parse_order"],
+    "shells": ["Shell"],
+}
+
+# What the document describes of a class stands in the class itself; methods that a class below has anew do, too.
+METHODS = {
+    ("benches", "Bench"): [
+        "__init__", "read", "is_edit", "version", "size", "kind", "choose", "turn", "add", "remove", "undo", "run",
+        "table", "best", "edits", "leaders", "walk", "__len__", "__str__", "__eq__",
+    ],
+    ("benches", "StrongBench"): ["__init__"],
+    ("benches", "LoggedBench"): ["__init__", "log", "turn", "add", "remove", "undo", "run"],
+    ("benches", "LoggedStrongBench"): ["__init__"],
+    ("shells", "Shell"): ["__init__", "execute"],
 }
 
 BUILTINS = set(
@@ -47,6 +63,7 @@ BARRED_WORDS = re.compile(
     r"\b(type|typing|typing_extensions|enum|Enum|IntEnum|StrEnum|Flag|IntFlag|Generic|Protocol|ABC|ABCMeta|namedtuple"
     r"|NamedTuple|TypedDict|TYPE_CHECKING|abstractmethod)\b|dataclass|overload|contextmanager"
 )
+DOUBLE_METHODS = {"__init__", "__eq__", "__repr__", "__str__", "__len__"}
 BARRED_NAMES = {"register", "mro", "elements", "open", "input", "law", "version_info", "with_traceback", "add_note"}
 DOUBLE = re.compile(r"__[a-z]+__")
 
@@ -109,6 +126,15 @@ class InterfaceTest(unittest.TestCase):
             tree = dict((path.stem, tree) for path, tree in trees())[module]
             found = {node.name for node in tree.body if isinstance(node, (ast.FunctionDef, ast.ClassDef))}
             self.assertEqual(set(names) - found, set())
+
+
+    def test_methods_stand_in_their_class(self):
+        found = {
+            (path.stem, node.name): {part.name for part in node.body if isinstance(part, ast.FunctionDef)}
+            for path, tree in trees() for node in tree.body if isinstance(node, ast.ClassDef)
+        }
+        for place, names in METHODS.items():
+            self.assertEqual(set(names) - found[place], set(), place)
 
 
 class FilesTest(unittest.TestCase):
@@ -202,6 +228,44 @@ class WordsTest(unittest.TestCase):
                     if node.func.id in ("any", "all", "min", "max", "sum", "sorted"):
                         bare = [part for part in node.args if isinstance(part, ast.GeneratorExp)]
                         self.assertEqual(bare, [], f"L7 {path.name}:{node.lineno}")
+
+    def test_no_name_is_a_method_and_an_attribute(self):
+        methods, attributes = set(), set()
+        for _, tree in trees():
+            for node in ast.walk(tree):
+                if isinstance(node, ast.ClassDef):
+                    methods |= {part.name for part in node.body if isinstance(part, ast.FunctionDef)}
+                if isinstance(node, ast.Attribute) and isinstance(node.ctx, ast.Store):
+                    attributes.add(node.attr)
+        # The setter of a property is the only method that is assigned.
+        self.assertEqual(methods & attributes, {"kind"}, "L18")
+
+    def test_double_underscore_methods(self):
+        for path, tree in trees():
+            for node in ast.walk(tree):
+                if isinstance(node, ast.FunctionDef) and DOUBLE.fullmatch(node.name):
+                    self.assertIn(node.name, DOUBLE_METHODS, f"L5 {path.name}:{node.lineno}")
+
+    def test_super_only_calls_methods(self):
+        for path, tree in trees():
+            called = [
+                node.func.value for node in ast.walk(tree)
+                if isinstance(node, ast.Call) and isinstance(node.func, ast.Attribute)
+            ]
+            for node in ast.walk(tree):
+                if isinstance(node, ast.Call) and ast.unparse(node.func) == "super":
+                    self.assertTrue(node in called and not node.args, f"L5 {path.name}:{node.lineno}")
+
+    def test_what_is_caught_and_raised(self):
+        own = set(DEFINITIONS["errors"])
+        for path, tree in trees():
+            for node in ast.walk(tree):
+                if isinstance(node, ast.ExceptHandler):
+                    caught = node.type.elts if isinstance(node.type, ast.Tuple) else [node.type]
+                    self.assertLessEqual({ast.unparse(part) for part in caught}, own, f"L19 {path.name}:{node.lineno}")
+                if isinstance(node, ast.Raise) and node.exc is not None:
+                    self.assertIsInstance(node.exc, ast.Call, f"L19 {path.name}:{node.lineno}")
+                    self.assertIn(ast.unparse(node.exc.func), own, f"L19 {path.name}:{node.lineno}")
 
     def test_is_with_constants_only(self):
         for path, tree in trees():
